@@ -1,0 +1,1 @@
+"""Rideturns: drives shared by turns."""
