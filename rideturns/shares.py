@@ -56,9 +56,7 @@ class Share:
         return Share(self.top * many, self.bottom)
 
     def over(self, many):
-        """Tell it parted by a whole number, a new Share; 0 is refused with Nought."""
-        if many == 0:
-            raise Nought(self.top)
+        """Tell it parted by a whole number, a new Share; making it refuses 0 with Nought of the own top."""
         return Share(self.top, self.bottom * many)
 
     def below(self, other):

@@ -57,6 +57,13 @@ class Refusals(unittest.TestCase):
                 self.assertIs(getattr(caught.exception, field), thing)
                 self.assertIsInstance(str(caught.exception), str)
 
+    def test_the_message_does_not_hang_on_how_it_was_made(self):
+        for name, (field, _) in REFUSALS.items():
+            refusal = getattr(errors, name)
+            self.assertTrue(str(refusal(None)))
+            for thing in THINGS:
+                self.assertEqual(str(refusal(thing)), str(refusal(**{field: thing})))
+
     def test_each_is_made_of_just_one_thing(self):
         for name in REFUSALS:
             with self.assertRaises(TypeError):

@@ -24,6 +24,37 @@ INTERFACE = {
         "mask_from": "(days)",
         "weekdays": "(mask)",
     },
+    "folk": {
+        "Person": "(name, seats=0, mask=31)",
+    },
+    "wants": {
+        "Wants": "()",
+        "Wants.enter": "(self, person, day=0)",
+        "Wants.leave": "(self, name, day)",
+        "Wants.weekly": "(self, name, mask, day=0)",
+        "Wants.only": "(self, name, day, want=True)",
+        "Wants.usual": "(self, name, day)",
+        "Wants.sick": "(self, name, first, last)",
+        "Wants.well": "(self, name, day)",
+        "Wants.wants": "(self, name, day)",
+        "Wants.riders": "(self, day)",
+        "Wants.room": "(self, day)",
+    },
+    "cars": {
+        "lacking": "(riders, seats)",
+        "fewest": "(riders, seats)",
+        "choose": "(riders, seats, standing=None)",
+        "crews": "(riders, drivers, seats)",
+        "carries": "(riders, seats, thing)",
+    },
+    "rides": {
+        "Ride": "(day, driver, riders=None, legs=1, worth=1, late=None)",
+        "Ride.riders": "(self)",
+        "Ride.late": "(self)",
+        "Ride.folk": "(self)",
+        "Ride.parts": "(self)",
+        "Ride.gives": "(self)",
+    },
 }
 
 

@@ -5,6 +5,8 @@ import unittest
 from fractions import Fraction
 
 from rideturns.errors import NoKind, NoShare, Nought
+from rideturns.folk import Person
+from rideturns.rides import Ride
 from rideturns.shares import Share, greatest, in_order, share_of, total
 from tests.things import NO_TEXTS, NO_WHOLES, THINGS, refused
 
@@ -85,7 +87,7 @@ class Made(unittest.TestCase):
 
     def test_equal_to_nothing_else(self):
         for share in [Share(0), Share(1), Share(-1), Share(7), Share(1, 2), Share(31)]:
-            for thing in THINGS + [share.top, str(share), repr(share), (share.top, share.bottom), [share], NoShare("1")]:
+            for thing in THINGS + [share.top, str(share), repr(share), (share.top, share.bottom), [share], Person("ann"), Ride(1, "ann")]:
                 self.assertFalse(share == thing)
                 self.assertFalse(thing == share)
                 self.assertTrue(share != thing)

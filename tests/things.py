@@ -27,7 +27,7 @@ NO_NAMES = NO_TEXTS + [
 ]
 
 
-def refused(case, error, field, worth, call, *places, **names):
+def refused(case, error, field, worth, call, /, *places, **names):
     """The call is refused with just this error, whose field is the very object."""
     before = copy.deepcopy((places, names))
     with case.assertRaises(error) as caught:
