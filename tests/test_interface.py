@@ -55,6 +55,23 @@ INTERFACE = {
         "Ride.parts": "(self)",
         "Ride.gives": "(self)",
     },
+    "rules": {
+        "is_rule": "(thing)",
+    },
+    "turns": {
+        "Turns": "(rule)",
+        "Turns.who": "(self, riders)",
+        "Turns.ride": "(self, riders)",
+        "Turns.stands": "(self)",
+        "Turns.drives": "(self)",
+        "Turns.memory": "(self)",
+    },
+    "bounds": {
+        "never_beyond": "(many, grain=0)",
+        "round_bound": "(order, name)",
+        "round_row": "(order, name, owed=True)",
+        "runaway": "(order, name, owed=True)",
+    },
 }
 
 

@@ -21,10 +21,24 @@ TEXTS = ["", " ", "0", "1", "-1", "31", "1f", "ann", "Ann", "ann ", "a\nb", "\n"
 THINGS = NO_TEXTS + TEXTS
 NO_WHOLES = [thing for thing in THINGS if not isinstance(thing, int) or isinstance(thing, bool)]
 NO_LISTS = [thing for thing in THINGS if not isinstance(thing, list)]
+NO_TUPLES = [thing for thing in THINGS if not isinstance(thing, tuple)]
 NO_DAYS = NO_WHOLES + [-1, 1000001, 10 ** 29, -(10 ** 29)]
 NO_NAMES = NO_TEXTS + [
     "", " ", "abcdefghi", "Ann", "ann ", " ann", "an n", "ann\n", "\nann", "a1", "a-b", "{", "`", "x" * 40000,
 ]
+
+
+def own_lists(case, told):
+    """Each list within what is told is one of its own, at each place."""
+    seen = []
+    waiting = [told]
+    while waiting:
+        thing = waiting.pop()
+        if isinstance(thing, (list, tuple)):
+            waiting.extend(thing)
+        if isinstance(thing, list):
+            seen.append(thing)
+    case.assertEqual(len({id(one) for one in seen}), len(seen))
 
 
 def refused(case, error, field, worth, call, /, *places, **names):
