@@ -72,6 +72,20 @@ INTERFACE = {
         "round_row": "(order, name, owed=True)",
         "runaway": "(order, name, owed=True)",
     },
+    "reaching": {
+        "reached": "(rule)",
+        "farthest": "(rule, name, owed=True)",
+    },
+    "reachlooks": {
+        "shows_reached": "(rule, thing)",
+    },
+    "parting": {
+        "parting": "(one, other)",
+        "alike": "(one, other)",
+    },
+    "partlooks": {
+        "shows_alike": "(one, other, thing)",
+    },
 }
 
 
