@@ -86,6 +86,21 @@ INTERFACE = {
     "partlooks": {
         "shows_alike": "(one, other, thing)",
     },
+    "evening": {
+        "wanted": "(standing, days)",
+        "evened": "(standing, days, slack=0)",
+        "why_uneven": "(standing, days, slack=0)",
+        "soonest": "(standing, days, slack=0)",
+    },
+    "evenlooks": {
+        "shows_uneven": "(standing, days, thing, slack=0)",
+    },
+    "handing": {
+        "after": "(standing, handed)",
+        "paid_off": "(standing, name)",
+        "lots": "(standing)",
+        "settled": "(standing)",
+    },
 }
 
 
