@@ -14,11 +14,8 @@ from rideturns.standings import turned
 def wanted(standing, days):
     """Tell how often each one would have to drive to come to nought behind all days."""
     check_even(standing)
-    fares = {}
-    for riders, able in days:
-        for name in riders:
-            fares[name] = fares.get(name, Share(0)).plus(Share(1, len(riders)))
-    return joined(fares, turned(standing))
+    fares = joined({}, [{name: Share(1, len(riders)) for name in riders} for riders, able in days])
+    return joined(fares, [turned(standing)])
 
 
 def slack_share(slack):

@@ -3,6 +3,7 @@
 from rideturns.errors import NoName
 from rideturns.errors import TooMany
 from rideturns.shares import in_order
+from rideturns.shares import same_share
 from rideturns.shares import Share
 from rideturns.standings import check_even
 from rideturns.standings import joined
@@ -13,16 +14,16 @@ MOST_UNEVEN = 10
 
 def after(standing, handed):
     """Tell the credits behind hand-overs."""
-    told = joined(standing, {})
+    moves = []
     for payer, taker, share in handed:
-        told[payer] = told.get(payer, Share(0)).plus(share)
-        told[taker] = told.get(taker, Share(0)).less(share)
-    return told
+        moves.append({payer: share})
+        moves.append(turned({taker: share}))
+    return joined(standing, moves)
 
 
 def lesser(one, other):
     """Tell the lesser of two Shares, as a new one."""
-    return Share(0).plus(one if one.below(other) else other)
+    return same_share(one if one.below(other) else other)
 
 
 def above_nought(standing):

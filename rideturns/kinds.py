@@ -38,3 +38,11 @@ def check_day(thing):
     """Refuse what is no day."""
     if not is_day(thing):
         raise NoDay(thing)
+
+
+def check_span(first, last):
+    """Refuse what are no days, or a last one ahead of the first."""
+    check_day(first)
+    check_day(last)
+    if last < first:
+        raise NoDay(last)

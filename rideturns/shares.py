@@ -68,6 +68,14 @@ class Share:
         return self.top // self.bottom
 
 
+def same_share(share):
+    """Tell a new Share of the same worth, which needs no bringing to lowest terms again."""
+    told = Share(0)
+    told.top = share.top
+    told.bottom = share.bottom
+    return told
+
+
 def total(shares, start=0):
     """Tell the sum of Shares and of a whole number to start from."""
     summed = Share(start)

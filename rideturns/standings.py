@@ -1,6 +1,7 @@
 """Standings: credits by names, a dict of Shares; who isn't in it has nought."""
 
 from rideturns.errors import Uneven
+from rideturns.shares import same_share
 from rideturns.shares import Share
 from rideturns.shares import total
 
@@ -13,10 +14,11 @@ def check_even(standing):
 
 
 def joined(standing, moves):
-    """Tell the credits of both together, a new dict of new Shares."""
-    told = {name: Share(0).plus(standing[name]) for name in standing}
-    for name in moves:
-        told[name] = told.get(name, Share(0)).plus(moves[name])
+    """Tell the credits behind a list of moves, each a dict from names to Shares; a new dict of new Shares."""
+    told = {name: same_share(standing[name]) for name in standing}
+    for move in moves:
+        for name in move:
+            told[name] = told.get(name, Share(0)).plus(move[name])
     return told
 
 

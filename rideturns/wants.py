@@ -5,6 +5,7 @@ from rideturns.errors import NoName
 from rideturns.errors import NoNumber
 from rideturns.errors import Taken
 from rideturns.kinds import check_day
+from rideturns.kinds import check_span
 from rideturns.kinds import is_mask
 from rideturns.kinds import LAST_DAY
 from rideturns.masks import WEEK
@@ -90,10 +91,7 @@ class Wants:
     def sick(self, name, first, last):
         """Let a name be sick from a day to another one, both counted."""
         wish = self.wish_of(name)
-        check_day(first)
-        check_day(last)
-        if last < first:
-            raise NoDay(last)
+        check_span(first, last)
         wish.spans.append((first, last))
 
     def well(self, name, day):

@@ -27,7 +27,7 @@ BARRED_NAMES = set("""register mro elements open input law version_info with_tra
 builtins compile copyright credits delattr dir eval exec exit gc getattr globals hasattr help id importlib license
 locals methodcaller os quit setattr super type vars sys""".split())
 # Kinds of code that the rules bar, or that this program has no need of.
-BARRED_CODE = (ast.Global, ast.AsyncFunctionDef, ast.AsyncFor, ast.AsyncWith, ast.Await, ast.Try, ast.With, ast.Match,
+BARRED_CODE = (ast.Global, ast.AsyncFunctionDef, ast.AsyncFor, ast.AsyncWith, ast.Await, ast.With, ast.Match,
                ast.Div, ast.MatMult, ast.Yield, ast.YieldFrom, ast.NamedExpr, ast.AnnAssign, ast.Nonlocal, ast.Import)
 
 
@@ -97,7 +97,17 @@ class Code(unittest.TestCase):
                 self.assertIsInstance(node, (ast.ImportFrom, ast.FunctionDef, ast.ClassDef, ast.Assign), stem)
                 if isinstance(node, ast.Assign):
                     self.assertEqual([type(target) for target in node.targets], [ast.Name], stem)
-                    ast.literal_eval(node.value)
+                    self.is_plain(tree, node)
+
+    def is_plain(self, tree, node):
+        """A plain value, or a dict of functions that are defined above it in the file."""
+        if isinstance(node.value, ast.Dict) and any([isinstance(one, ast.Name) for one in node.value.values]):
+            above = {one.name for one in tree.body if isinstance(one, ast.FunctionDef) and one.lineno < node.lineno}
+            for key, one in zip(node.value.keys, node.value.values, strict=True):
+                ast.literal_eval(key)
+                self.assertIn(one.id, above)
+        else:
+            ast.literal_eval(node.value)
 
     def test_barred_code(self):
         self.assertEqual([(stem, node) for stem, node in nodes(BARRED_CODE)], [])
@@ -151,6 +161,15 @@ class Code(unittest.TestCase):
         for stem, node in nodes(ast.Raise):
             self.assertIsInstance(node.exc, ast.Call, stem)
             self.assertIn(node.exc.func.id, refusals, stem)
+
+    def test_own_refusals_alone_are_caught(self):
+        refusals = {node.name for node in TREES["errors"].body if isinstance(node, ast.ClassDef)}
+        for stem, node in nodes(ast.Try):
+            self.assertEqual((node.orelse, node.finalbody), ([], []), stem)
+            for handler in node.handlers:
+                caught = handler.type.elts if isinstance(handler.type, ast.Tuple) else [handler.type]
+                self.assertTrue({one.id for one in caught} <= refusals, stem)
+                self.assertIsNone(handler.name, stem)
 
     def test_double_underscore_methods(self):
         for stem, node in nodes(ast.FunctionDef):

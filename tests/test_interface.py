@@ -101,6 +101,32 @@ INTERFACE = {
         "lots": "(standing)",
         "settled": "(standing)",
     },
+    "book": {
+        "Book": "()",
+        "Book.enter": "(self, name)",
+        "Book.hand": "(self, day, payer, taker, share)",
+        "Book.undo": "(self)",
+        "Book.tell": "(self, ride)",
+        "Book.take_back": "(self, day, driver)",
+        "Book.leave": "(self, name, day)",
+        "Book.names": "(self)",
+        "Book.gone": "(self)",
+        "Book.handed": "(self)",
+        "Book.rides": "(self, day=None)",
+        "Book.stands": "(self, day=None)",
+    },
+    "ahead": {
+        "plan_ahead": "(wants, book, first, last)",
+    },
+    "texts": {
+        "ride_of": "(text)",
+        "written": "(book)",
+        "read": "(text)",
+    },
+    "desk": {
+        "Desk": "()",
+        "Desk.answer": "(self, row)",
+    },
 }
 
 

@@ -3,7 +3,7 @@
 import unittest
 
 from rideturns.errors import NoDay
-from rideturns.kinds import check_day, is_between, is_day, is_mask, is_name, is_whole
+from rideturns.kinds import check_day, check_span, is_between, is_day, is_mask, is_name, is_whole
 from tests.things import NO_DAYS, NO_NAMES, NO_WHOLES, refused
 
 WHOLES = [0, 1, -1, 31, 10 ** 29, -(10 ** 29)]
@@ -41,6 +41,15 @@ class Kinds(unittest.TestCase):
         for thing in NO_DAYS:
             self.assertIs(is_day(thing), False)
             refused(self, NoDay, "day", thing, check_day, thing)
+
+    def test_spans(self):
+        for first, last in [(0, 0), (3, 3), (3, 4), (0, 1000000), (1000000, 1000000)]:
+            self.assertIsNone(check_span(first, last))
+        for thing in NO_DAYS:
+            refused(self, NoDay, "day", thing, check_span, thing, 3)
+            refused(self, NoDay, "day", thing, check_span, 3, thing)
+            refused(self, NoDay, "day", thing, check_span, thing, [thing])
+        refused(self, NoDay, "day", 3, check_span, 4, 3)
 
     def test_masks(self):
         for thing in range(-5, 140):

@@ -7,7 +7,7 @@ from fractions import Fraction
 from rideturns.errors import NoKind, NoShare, Nought
 from rideturns.folk import Person
 from rideturns.rides import Ride
-from rideturns.shares import Share, greatest, in_order, share_of, total
+from rideturns.shares import Share, greatest, in_order, same_share, share_of, total
 from tests.things import NO_TEXTS, NO_WHOLES, THINGS, refused
 
 
@@ -98,6 +98,15 @@ class Made(unittest.TestCase):
             (Share(4, -6), "-2/3", "Share(-2, 3)"), (Share(6, 3), "2", "Share(2, 1)"), (Share(1, 10), "1/10", "Share(1, 10)"),
         ]:
             self.assertEqual((str(share), repr(share)), (text, shown))
+
+
+class Same(unittest.TestCase):
+    def test_a_new_share_of_the_same_worth(self):
+        for share in many_shares(31):
+            told = same_share(share)
+            self.assertEqual((told, told.top, told.bottom), (share, share.top, share.bottom))
+            told.top += 1
+            self.assertNotEqual(told, share)
 
 
 class Sums(unittest.TestCase):

@@ -17,9 +17,9 @@ class Standings(unittest.TestCase):
 
     def test_joined(self):
         one, other = {"ann": Share(1), "bob": Share(2)}, {"bob": Share(-1, 2), "cid": Share(3)}
-        self.assertEqual(joined(one, other), {"ann": Share(1), "bob": Share(3, 2), "cid": Share(3)})
+        self.assertEqual(joined(one, [other]), {"ann": Share(1), "bob": Share(3, 2), "cid": Share(3)})
         self.assertEqual((one, other), ({"ann": Share(1), "bob": Share(2)}, {"bob": Share(-1, 2), "cid": Share(3)}))
-        self.assertIsNot(joined(one, {})["ann"], one["ann"])
+        self.assertIsNot(joined(one, [])["ann"], one["ann"])
 
     def test_turned(self):
         self.assertEqual(turned({"ann": Share(1), "bob": Share(-2, 3), "cid": Share(0)}),
