@@ -78,6 +78,13 @@ class Entering(BookCase):
         self.assertEqual((book.names(), book.gone()), (["ann", "bob"], []))
         self.assertEqual(book.stands(), {"ann": Share(0), "bob": Share(0)})
 
+    def test_sorted(self):
+        book = book_of(["dan", "ann", "eve", "cid", "bob"])
+        book.leave("eve", 1)
+        book.leave("ann", 0)
+        book.leave("bob", 2)
+        self.assertEqual((book.names(), book.gone()), (["cid", "dan"], ["ann", "bob", "eve"]))
+
     def test_what_is_no_name(self):
         book = book_of(["ann"])
         for thing in NO_NAMES:

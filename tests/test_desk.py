@@ -79,6 +79,10 @@ class Rows(DeskCase):
             ("riders 5", "bob"), ("leave bob 4", "-"), ("names", "ann"), ("gone", "bob"), ("riders 4", "ann bob"), ("riders 5", "-"),
             ("credits", "ann 0; bob 0"), ("text", "in ann\nout bob")])
 
+    def test_names_with_blanks_between(self):
+        desk = desk_of(*[f"enter {name} 4 1f 0" for name in ["eve", "dan", "ann", "cid", "bob"]])
+        self.told(desk, [("leave dan 3", "-"), ("leave ann 3", "-"), ("leave cid 3", "-"), ("gone", "ann cid dan"), ("names", "bob eve")])
+
     def test_wants(self):
         self.told(Desk(), [
             ("enter ann 4 1f 0", "ok"), ("weekly ann 40 7", "ok"), ("riders 6", "-"), ("riders 7", "-"), ("riders 13", "ann"), ("only ann 8 yes", "ok"),

@@ -35,6 +35,11 @@ class Shows(unittest.TestCase):
         self.assertIs(shows_uneven(standing, [], ("part", "ann"), Share(1, 3)), True)
         self.assertIs(shows_uneven(standing, [], ("part", "ann"), Share(1, 2)), False)
         self.assertIs(shows_uneven(thing=("part", "ann"), days=[], standing=standing), True)
+        # What is wanted can be had here, so only a slack below nought would let these by.
+        even, days = {"ann": Share(0), "bob": Share(0)}, [(PAIR, PAIR)] * 2
+        for paper in [("part", "ann"), ("few", ("ann",)), ("few", PAIR), ("crowd", ("ann",)), ("crowd", PAIR)]:
+            self.assertIs(shows_uneven(even, days, paper), False)
+            self.assertIs(shows_uneven(thing=paper, standing=even, days=days), False)
 
     def test_part(self):
         # Of one who is owed more than the slack no number from 0 on is near enough.

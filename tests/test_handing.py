@@ -125,8 +125,10 @@ class PaidOff(unittest.TestCase):
                 self.assertLess(sum(sorted(size.values(), reverse=True)[:max(0, len(handed) - 1)]), max(abs(worth(standing[name])), 1e-40))
 
     def test_own(self):
-        standing = dict(self.STANDING)
+        standing = copy.deepcopy(self.STANDING)
         told = paid_off(standing, "ann")
+        for share in standing.values():
+            share.top += 7
         standing.clear()
         self.assertEqual(told, [("ann", "dan", Share(3)), ("ann", "bob", Share(2))])
 
@@ -211,6 +213,10 @@ class Lots(unittest.TestCase):
         lots(standing).clear()
         settled(standing).clear()
         self.assertEqual((lots(standing), settled(standing)), ([("ann", "bob")], [("bob", "ann", Share(1))]))
+        told = settled(standing)
+        for share in standing.values():
+            share.top += 7
+        self.assertEqual(told, [("bob", "ann", Share(1))])
 
 
 class Settled(unittest.TestCase):

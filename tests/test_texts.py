@@ -173,6 +173,7 @@ class Read(unittest.TestCase):
             "hand 0000003 ann bob 2/4", "hand 0000003 ann bob 3/1", "hand 0000003 ann bob 1/0", "hand 0000003 ann bob x", "hand 0000003 Ann bob 1",
             "hand 0000003 ann Bob 1", "hand  0000003 ann bob 1", "hand 0000003 ann bob 1/-2", "hand 0000003 ann bob +1", "hand 0000003 ann bob -0",
             "hand -000003 ann bob 1", "back 3 ann", "0000003 ann 1 1", ", in ann", "in ann;", "in ann in bob", "hand 0000003 ann bob 01",
+            "hands 0000003 ann bob 1", "back 0000003 ann bob 1", "rides 0000003 ann 1 1", "off ann",
         ]:
             self.no_text(0, row)
             self.no_text(2, "in ann\nin bob\n" + row + "\nx")
